@@ -1,0 +1,1 @@
+"""Edits of values: valueedits.desk.answers answers the calls."""

@@ -1,0 +1,134 @@
+"""The desk at which values are edited: the calls and their answers."""
+
+from valueedits.applying import applied, value_made
+from valueedits.edits import edit_from, edit_text, edits_from
+from valueedits.reading import value_from
+from valueedits.refusals import Inapplicable, Unreadable
+from valueedits.shapes import EMPTY_RECORD, count_entries, depth_of, is_value
+from valueedits.turning import turned_back
+from valueedits.writing import value_text
+
+
+class Desk:
+    """The object that a line's calls are on.
+
+    A deed is kept as the value that it was done to (undoable) or the value that it made (redoable).
+    """
+
+    def __init__(self):
+        self.value = EMPTY_RECORD
+        self.other = EMPTY_RECORD
+        self.undoable = []
+        self.redoable = []
+
+    def begin_with(self, value):
+        self.value = value
+        self.undoable = []
+        self.redoable = []
+
+    def do_deed(self, made):
+        self.undoable.append(self.value)
+        self.redoable = []
+        self.value = made
+
+
+def measures(value):
+    return [count_entries(value), depth_of(value)]
+
+
+def counted(text):
+    return [len(text)] + text
+
+
+def answer_value(desk, texts):
+    desk.begin_with(value_from(texts[0]))
+    return measures(desk.value)
+
+
+def answer_other(desk, texts):
+    desk.other = value_from(texts[0])
+    return measures(desk.other)
+
+
+def answer_show(desk, texts):
+    return counted(value_text(desk.value))
+
+
+def answer_edit(desk, texts):
+    desk.do_deed(value_made(edit_from(texts[0]), desk.value))
+    return measures(desk.value)
+
+
+def answer_rows(desk, texts):
+    edits = edits_from(texts[0])
+    made = desk.value
+    for count, edit in enumerate(edits):
+        try:
+            made = applied(edit, made)
+        except Inapplicable:
+            return [1, count]
+    if not is_value(made):
+        return [1, len(edits)]
+    desk.do_deed(made)
+    return [0, len(edits)]
+
+
+def answer_try(desk, texts):
+    edit = edit_from(texts[0])
+    try:
+        made = value_made(edit, desk.value)
+    except Inapplicable:
+        return [0]
+    return [1] + counted(value_text(made))
+
+
+def answer_back(desk, texts):
+    edit = edit_from(texts[0])
+    # Only looked at: back is refused where the edit would be.
+    value_made(edit, desk.value)
+    return counted(edit_text(turned_back(edit, desk.value)))
+
+
+def answer_size(desk, texts):
+    return [count_entries(desk.value), count_entries(desk.other), len(desk.undoable), len(desk.redoable)]
+
+
+# Each call's number, with what answers it and how many texts it has.
+CALLS = {
+    0: (answer_value, 1),
+    1: (answer_other, 1),
+    2: (answer_show, 0),
+    3: (answer_edit, 1),
+    4: (answer_rows, 1),
+    5: (answer_try, 1),
+    6: (answer_back, 1),
+    13: (answer_size, 0),
+}
+
+
+def answer_of(desk, number, texts):
+    answering = CALLS[number][0]
+    try:
+        return answering(desk, texts)
+    except Unreadable:
+        return [-1]
+    except Inapplicable:
+        return [-5]
+
+
+def answers(calls):
+    desk = Desk()
+    given = []
+    place = 0
+    while place < len(calls):
+        number = calls[place]
+        place += 1
+        texts = []
+        for count in range(CALLS[number][1]):
+            start = place + 1
+            place = start + calls[place]
+            texts.append(calls[start:place])
+        answer = answer_of(desk, number, texts)
+        given.append(len(answer))
+        given.extend(answer)
+    return given
