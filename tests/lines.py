@@ -2,7 +2,12 @@
 
 from valueedits.desk import answers
 
-NUMBERS = {"value": 0, "other": 1, "show": 2, "edit": 3, "rows": 4, "try": 5, "back": 6, "size": 13}
+NUMBERS = {"value": 0, "other": 1, "show": 2, "edit": 3, "rows": 4, "try": 5, "back": 6, "cost": 7, "diff": 8, "meet": 9,
+           "commute": 10, "undo": 11, "redo": 12, "size": 13}
+
+PATHS = ["/", "/", "/", "/a", "/b", "/0", "/1", "/a/0", "/0/a", "/a/b", "/1/1"]
+SMALL_VALUES = ["1", '"x"', "{}", "[]", "{a: 1}", "[1, 2]", "{a: [], b: {c: 2}}", "[[3], {a: 4}]"]
+NAMES = ["a", "b", "c"]
 
 
 def as_bytes(text):
@@ -11,7 +16,7 @@ def as_bytes(text):
 
 
 def calls_of(*told):
-    """The list of the calls; each is told as its word, or as its word and its text."""
+    """The list of the calls; each is told as its word, or as its word and its texts."""
     calls = []
     for call in told:
         call = (call,) if isinstance(call, str) else call
@@ -53,6 +58,18 @@ def text_of(answer):
     return "".join(map(chr, answer[1:]))
 
 
+def texts_of(answer):
+    """The texts that an answer is."""
+    texts = []
+    place = 1
+    while place < len(answer):
+        behind = place + 1 + answer[place]
+        texts.append(text_of(answer[place:behind]))
+        place = behind
+    assert answer[0] == len(texts), answer
+    return texts
+
+
 def shown(*told):
     """The value's text behind the calls."""
     return text_of(last(*told, "show"))
@@ -85,3 +102,20 @@ def with_entries(count):
         items.append(written_list([0] * inner))
         left -= inner + 1
     return written_list(items + [0] * left)
+
+
+def some_edit(source):
+    """An edit's text; many of these apply to small values."""
+    word = source.choice(["set", "put", "put", "take", "move", "add", "add", "drop", "rename"])
+    told = [word, source.choice(PATHS)]
+    if word in ("put", "take", "move", "add"):
+        told.append(str(source.randrange(3)))
+    if word == "move":
+        told.append(str(source.randrange(3)))
+    if word in ("add", "drop", "rename"):
+        told.append(source.choice(NAMES))
+    if word == "rename":
+        told.append(source.choice(NAMES))
+    if word in ("set", "put", "add"):
+        told.append(source.choice(SMALL_VALUES))
+    return " ".join(told)

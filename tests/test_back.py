@@ -3,6 +3,7 @@
 import random
 import unittest
 
+from lines import SMALL_VALUES, some_edit
 from lines import answered, last, lines, nested, shown, text_of, with_entries, written_list, written_record
 
 EXAMPLE = '{a: 1, l: ["x", "y", "z"]}'
@@ -69,28 +70,6 @@ class Back(unittest.TestCase):
         self.assertEqual(text_of(last(*told)), "set /0 2")
 
 
-PATHS = ["/", "/", "/", "/a", "/b", "/0", "/1", "/a/0", "/0/a", "/a/b", "/1/1"]
-VALUES = ["1", '"x"', "{}", "[]", "{a: 1}", "[1, 2]", "{a: [], b: {c: 2}}", "[[3], {a: 4}]"]
-NAMES = ["a", "b", "c"]
-
-
-def some_edit(source):
-    """An edit's text; many of these apply to small values."""
-    word = source.choice(["set", "put", "put", "take", "move", "add", "add", "drop", "rename"])
-    told = [word, source.choice(PATHS)]
-    if word in ("put", "take", "move", "add"):
-        told.append(str(source.randrange(3)))
-    if word == "move":
-        told.append(str(source.randrange(3)))
-    if word in ("add", "drop", "rename"):
-        told.append(source.choice(NAMES))
-    if word == "rename":
-        told.append(source.choice(NAMES))
-    if word in ("set", "put", "add"):
-        told.append(source.choice(VALUES))
-    return " ".join(told)
-
-
 class EditsTogether(unittest.TestCase):
     """What edit, try, back and rows say of one and the same edit agrees."""
 
@@ -100,7 +79,7 @@ class EditsTogether(unittest.TestCase):
         applied = 0
         for turn in range(5000):
             if turn % 50 == 0:
-                value = source.choice(VALUES[-2:])
+                value = source.choice(SMALL_VALUES[-2:])
             edit = some_edit(source)
             with self.subTest(value=value, edit=edit):
                 given = answered(("value", value), ("try", edit), ("back", edit), ("rows", lines(edit)), "show")

@@ -11,7 +11,9 @@ EVERY_CALL = [
     ("value", '{a: 1, l: ["x", "y", "z"]}'), ("other", "[1]"), "show", ("edit", "take /l 0"), ("rows", lines("set /a 3")),
     ("rows", lines("set /b 3")), ("try", "set / 1"), ("try", "set /b 1"), ("back", "drop / a"), "size",
     ("value", "x"), ("other", "x"), ("edit", "x"), ("edit", "drop / b"), ("rows", "x"), ("try", "x"), ("back", "x"),
-    ("back", "drop / b"), "size",
+    ("back", "drop / b"), "size", ("cost", "add / 0 c [1]"), "diff", ("commute", "set /a 1", "take /l 0"), "undo", "meet",
+    "redo", "undo", "redo", "undo", "undo", ("cost", "x"), ("commute", "x", "drop / a"), ("commute", "drop / a", "x"),
+    "undo", "diff", "size", "redo", "redo", "redo", "show", "size",
 ]
 
 
@@ -29,6 +31,12 @@ class Size(unittest.TestCase):
         given = answered(*told)
         self.assertEqual(given[-2:], [[3, 2, 3, 0], [3, 2, 3, 0]])
 
+    def test_deeds_that_can_be_undone_and_done_again(self):
+        told = [("value", "[1]"), ("other", "[1, 2]"), ("edit", "put / 0 0"), "meet", ("rows", ""), "size", "undo", "size",
+                "undo", "size", "undo", "size", "redo", "size", ("edit", "set / 7"), "size", ("value", "[[1]]"), "size"]
+        self.assertEqual(answered(*told)[5::2], [[3, 3, 3, 0], [3, 3, 2, 1], [3, 3, 1, 2], [2, 3, 0, 3], [3, 3, 1, 2],
+                                                 [1, 3, 2, 0], [3, 3, 0, 0]])
+
     def test_sixty_calls(self):
         self.assertEqual(last(*[("edit", "set / 1")] * 59, "size"), [1, 1, 59, 0])
 
@@ -44,6 +52,12 @@ class Interface(unittest.TestCase):
         self.assertEqual(answers([4, 0]), [2, 0, 0])
         self.assertEqual(answers([5, 0]), [1, -1])
         self.assertEqual(answers([6, 0]), [1, -1])
+        self.assertEqual(answers([7, 0]), [1, -1])
+        self.assertEqual(answers([8]), [2, 0, 0])
+        self.assertEqual(answers([9]), [2, 1, 0])
+        self.assertEqual(answers([10, 0, 0]), [1, -1])
+        self.assertEqual(answers([11]), [1, -9])
+        self.assertEqual(answers([12]), [1, -9])
         self.assertEqual(answers([13]), [4, 1, 1, 0, 0])
         set_seven = as_bytes("set / 7")
         self.assertEqual(answers([5, 7] + set_seven), [3, 1, 1, 55])
@@ -54,6 +68,18 @@ class Interface(unittest.TestCase):
         self.assertEqual(answers([4, 16] + set_seven + [10] + as_bytes("drop / a")), [1, -1])
         self.assertEqual(answers([3, 8] + as_bytes("drop / a")), [1, -5])
         self.assertEqual(answers([6, 8] + as_bytes("drop / a")), [1, -5])
+
+    def test_the_form_of_the_later_calls_and_answers(self):
+        set_seven = as_bytes("set / 7")
+        self.assertEqual(answers([7, 7] + set_seven), [1, 2])
+        self.assertEqual(answers([1, 1, 55, 8]), [2, 1, 1, 10, 2, 1, 7] + set_seven)
+        self.assertEqual(answers([0, 6] + as_bytes("[1, 2]") + [1, 2] + as_bytes("[]") + [8])[6:],
+                         [20, 2, 2, 8] + as_bytes("take / 0") + [8] + as_bytes("take / 0"))
+        self.assertEqual(answers([1, 1, 55, 9, 11, 12]), [2, 1, 1, 2, 1, 1, 2, 0, 1, 2, 1, 0])
+        self.assertEqual(answers([10, 7] + set_seven + [7] + set_seven), [1, 1])
+        self.assertEqual(answers([10, 7] + set_seven + [8] + as_bytes("drop / a") + [13]), [1, 0, 4, 1, 1, 0, 0])
+        self.assertEqual(answers([10, 7] + set_seven + [0, 13]), [1, -1, 4, 1, 1, 0, 0])
+        self.assertEqual(answers([10, 0, 7] + set_seven + [13]), [1, -1, 4, 1, 1, 0, 0])
 
     def test_a_byte_of_a_text_is_no_call(self):
         self.assertEqual(answers([0, 3, 2, 2, 2, 13]), [1, -1, 4, 1, 1, 0, 0])
@@ -99,16 +125,22 @@ class Interface(unittest.TestCase):
         given = answered(*EVERY_CALL)
         self.assertEqual([given[place] for place in (0, 1, 3, 4, 5, 7, 9)],
                          [[6, 3], [2, 2], [5, 3], [0, 1], [1, 0], [0], [5, 2, 2, 0]])
-        self.assertEqual(given[10:], [[-1], [-1], [-1], [-5], [-1], [-1], [-1], [-5], [5, 2, 2, 0]])
+        self.assertEqual(given[10:20], [[-1], [-1], [-1], [-5], [-1], [-1], [-1], [-5], [5, 2, 2, 0], [3]])
+        self.assertEqual(given[20], [3, 1, 9] + as_bytes("set / [1]"))
+        self.assertEqual(given[21:33], [[1], [1, 1], [1, 1], [-9], [1, 1], [2, 0], [1, 1], [0, 2], [-1], [-1], [-1], [-9]])
+        self.assertEqual(given[33], [3, 1, 9] + as_bytes("set / [1]"))
+        self.assertEqual(given[34:], [[6, 2, 0, 2], [1, 1], [2, 0], [-9], [3] + as_bytes("[1]"), [2, 2, 2, 0]])
 
     def test_long_texts_nested_deep(self):
         for text in ("[" * 6000, "{a: " * 1500, '"' + "\\" * 5999, "-" * 6000, "9" * 6000, "a" * 6000, "/" * 6000):
             with self.subTest(text=text[:5]):
                 calls = [("value", text), ("other", text), ("edit", text), ("rows", text)]
                 self.assertEqual(answered(*calls), [[-1]] * 4)
-                self.assertEqual(answered(("try", text), ("back", text)), [[-1]] * 2)
+                self.assertEqual(answered(("try", text), ("back", text), ("cost", text)), [[-1]] * 3)
+                self.assertEqual(answered(("commute", text, "set / 1"), ("commute", "set / 1", text)), [[-1]] * 2)
         path = "set " + "/0" * 2997 + " 1"
         self.assertEqual(answered(("edit", path), ("try", path), ("back", path)), [[-5], [0], [-5]])
+        self.assertEqual(answered(("cost", path), ("commute", path, "set / 1")), [[2], [0]])
 
 
 if __name__ == "__main__":

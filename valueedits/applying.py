@@ -129,8 +129,15 @@ def applied(edit, value):
     return made
 
 
-def value_made(edit, value):
-    """The value that the edit makes of the value."""
-    made = applied(edit, value)
+def value_made_by_row(edits, value):
+    """The value that the row of edits makes of the value."""
+    made = value
+    for edit in edits:
+        made = applied(edit, made)
     require(is_value(made))
     return made
+
+
+def value_made(edit, value):
+    """The value that the edit makes of the value."""
+    return value_made_by_row([edit], value)

@@ -7,3 +7,7 @@ class Unreadable(Exception):
 
 class Inapplicable(Exception):
     """An edit does not apply, or does not make a value."""
+
+
+class NoDeed(Exception):
+    """There is no deed to be undone, or to be done again."""
